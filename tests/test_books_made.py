@@ -2,12 +2,11 @@
 
 import unittest
 
-from things import SIXTY_FIGURES, odd_things, whole_numbers
+from things import SIXTY_FIGURES, TWELVE, LikeAll, odd_things, whole_numbers
 
 from ringclear.books import MOST, Book
 from ringclear.errors import NoBook, NoSuch
 
-TWELVE = ["l", "k", "jj", "iii", "hhhh", "ggggg", "ffffff", "eeeeeee", "dddddddd", "c", "b", "a"]
 ASKED_OF_ONE = ["cash", "fallen", "given", "pile", "notes", "whole_of", "fallen_to"]
 
 
@@ -85,13 +84,6 @@ class Made(unittest.TestCase):
         self.refused([3, 3], "name", "0")
         self.refused(["ann", "bob", "eve", "bob", "ann"], "again", "bob")
         self.refused(["ann", [], "ann", ""], "name", "1")
-
-
-class LikeAll:
-    """A thing that says that it equals whatever it is compared with."""
-
-    def __eq__(self, other):
-        return True
 
 
 class Persons(unittest.TestCase):

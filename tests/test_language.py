@@ -79,6 +79,30 @@ class Language(unittest.TestCase):
             used = {node.id for node in nodes_of(tree, ast.Name)} & set(dir(builtins))
             self.assertEqual(used - BUILTINS, set(), name)
 
+    def test_is_stands_beside_none_true_and_false_alone(self):
+        for name, text, tree in sources():
+            for node in nodes_of(tree, ast.Compare):
+                for sign, other in zip(node.ops, node.comparators):
+                    if isinstance(sign, (ast.Is, ast.IsNot)):
+                        self.assertIn(ast.unparse(other), ["None", "True", "False"], name)
+
+    def test_no_generator_expressions_and_no_growing_powers(self):
+        # A class has an __eq__, so any, all and the like take lists.
+        for name, text, tree in sources():
+            self.assertEqual(nodes_of(tree, ast.GeneratorExp), [], name)
+            for node in nodes_of(tree, ast.BinOp):
+                if isinstance(node.op, ast.Pow):
+                    self.assertIn(node.right.value, range(65), name)
+
+    def test_no_two_files_import_from_each_other(self):
+        needs = {name[:-3]: {node.module.split(".")[1] for node in nodes_of(tree, ast.ImportFrom)}
+                 for name, text, tree in sources()}
+        while needs:
+            free = [name for name in needs if not needs[name] & set(needs)]
+            self.assertTrue(free, needs)
+            for name in free:
+                del needs[name]
+
     def test_no_name_is_a_method_and_an_attribute(self):
         methods, attributes = set(), set()
         for name, text, tree in sources():

@@ -1,6 +1,9 @@
 """Things for the tests: of all kinds, and a coin by coin model of books."""
 
+from ringclear.books import Book
+
 SIXTY_FIGURES = int("7" * 60)
+TWELVE = ["l", "k", "jj", "iii", "hhhh", "ggggg", "ffffff", "eeeeeee", "dddddddd", "c", "b", "a"]
 
 
 def odd_things():
@@ -63,3 +66,60 @@ class CoinBook:
     def let_fall(self, more):
         for who, much in more.items():
             self.gone[who] += much
+
+
+class LikeAll:
+    """A thing that says that it equals whatever it is compared with."""
+
+    def __eq__(self, other):
+        return True
+
+
+def no_persons():
+    """Things by which no person goes in a book of ann, bob, eve and the like."""
+    return odd_things() + whole_numbers() + ["x", "an", "anna", "bo", Book(["ann"]), LikeAll()]
+
+
+def any_amount(chance, figures):
+    """An amount of so many figures at most."""
+    return chance.randint(1, 10 ** chance.randint(1, figures) - 1)
+
+
+def any_book(chance, persons, notes, figures=1, cash=True):
+    """A book of these persons and so many notes, of which nothing has fallen; perhaps with cash here and there."""
+    book = Book(persons)
+    for _ in range(notes):
+        book = book.put(chance.choice(persons), chance.choice(persons), any_amount(chance, figures))
+    for who in persons:
+        if cash and chance.random() < 0.5:
+            book = book.give(who, any_amount(chance, figures))
+    return book
+
+
+def fallen_book(chance, book):
+    """The same with something fallen: of each person nothing, all notes, some whole notes, or any part."""
+    more = {}
+    for who in book.persons():
+        whole = book.whole_of(who)
+        notes = book.notes(who)
+        some = sum(amount for _, amount in notes[:chance.randint(0, len(notes))])
+        more[who] = chance.choice([0, whole, some, chance.randint(0, whole)])
+        # As much is given as falls, so that nobody is short.
+        if more[who] > 0:
+            book = book.give(who, more[who])
+    return book.let_fall(more)
+
+
+def greatest_fallen(book):
+    """The greatest vector by which nobody's cash is below 0, come to from above: for small numbers."""
+    fallen = {who: book.whole_of(who) for who in book.persons()}
+    while True:
+        ends = {who: book.given(who) - fallen[who] for who in book.persons()}
+        for who in book.persons():
+            rest = fallen[who]
+            for to, amount in book.notes(who):
+                ends[to] += min(rest, amount)
+                rest -= min(rest, amount)
+        if min(ends.values()) >= 0:
+            return fallen
+        fallen = {who: fallen[who] + min(0, ends[who]) for who in fallen}
