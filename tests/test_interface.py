@@ -16,6 +16,15 @@ FUNCTIONS = {
         "stepped": "(book, step)", "by_weaving": "(book, weaving)",
     },
     "settling": {"is_settled": "(book)", "settled_book": "(book)", "settling_steps": "(book)"},
+    "vectors": {
+        "fallen_of": "(book)", "ends_by": "(book, vector)", "is_covered": "(book, vector)", "greatest_of": "(book)",
+        "joined_of": "(book, one, other)",
+    },
+    "ways": {"book_at": "(book, vector)", "way_to": "(book, vector)"},
+    "lacks": {
+        "owes_of": "(book, who)", "owed_to": "(book, who)", "lack_of": "(book, who)", "all_lacks": "(book)",
+        "is_paid": "(book)", "all_stuck": "(book)",
+    },
 }
 METHODS = {
     "persons": "(self)", "cash": "(self, who)", "fallen": "(self, who)", "given": "(self, who)", "pile": "(self, who)",

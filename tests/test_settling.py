@@ -3,22 +3,13 @@
 import random
 import unittest
 
-from things import SIXTY_FIGURES, TWELVE, any_book, fallen_book, greatest_fallen
+from things import SIXTY_FIGURES, TWELVE, any_book, fallen_book, greatest_fallen, some_steps, steps_from, times
 
 from ringclear.books import Book
 from ringclear.errors import NoRing, TooMuch
 from ringclear.rings import all_rings
 from ringclear.settling import is_settled, settled_book, settling_steps
 from ringclear.steps import by_weaving, most_of, stepped
-
-
-def steps_from(book):
-    """All steps that can be done in a book, of each amount."""
-    steps = []
-    for who in book.persons():
-        steps += [("pay", who, amount) for amount in range(1, most_of(book, who) + 1)]
-        steps += [("clear", who, amount) for amount in range(1, most_of(book, who, word="clear") + 1)]
-    return steps
 
 
 def ends_of(book):
@@ -36,32 +27,6 @@ def ends_of(book):
                 seen.add(other.key())
                 rest.append(other)
     return list(ends.values())
-
-
-def some_steps(chance, book, many):
-    """The book after so many steps at the most, by chance, of amounts by chance."""
-    for _ in range(many):
-        steps = []
-        for who in book.persons():
-            for word in ["pay", "clear"]:
-                most = most_of(book, who, word=word)
-                if most > 0:
-                    steps.append((word, who, chance.choice([1, most, chance.randint(1, most)])))
-        if not steps:
-            return book
-        book = stepped(book, chance.choice(steps))
-    return book
-
-
-def times(book, factor):
-    """The same book with all numbers so many times as great."""
-    other = Book(book.persons())
-    for who in book.persons():
-        if book.given(who):
-            other = other.give(who, book.given(who) * factor)
-        for to, amount in book.notes(who):
-            other = other.put(who, to, amount * factor)
-    return other.let_fall({who: book.fallen(who) * factor for who in book.persons()})
 
 
 def books_by_chance(many, figures):

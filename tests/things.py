@@ -1,6 +1,10 @@
 """Things for the tests: of all kinds, and a coin by coin model of books."""
 
+import itertools
+import random
+
 from ringclear.books import Book
+from ringclear.steps import most_of, stepped
 
 SIXTY_FIGURES = int("7" * 60)
 TWELVE = ["l", "k", "jj", "iii", "hhhh", "ggggg", "ffffff", "eeeeeee", "dddddddd", "c", "b", "a"]
@@ -123,3 +127,106 @@ def greatest_fallen(book):
         if min(ends.values()) >= 0:
             return fallen
         fallen = {who: fallen[who] + min(0, ends[who]) for who in fallen}
+
+
+def steps_from(book):
+    """All steps that can be done in a book, of each amount."""
+    steps = []
+    for who in book.persons():
+        steps += [("pay", who, amount) for amount in range(1, most_of(book, who) + 1)]
+        steps += [("clear", who, amount) for amount in range(1, most_of(book, who, word="clear") + 1)]
+    return steps
+
+
+def some_steps(chance, book, many):
+    """The book after so many steps at the most, by chance, of amounts by chance."""
+    for _ in range(many):
+        steps = []
+        for who in book.persons():
+            for word in ["pay", "clear"]:
+                most = most_of(book, who, word=word)
+                if most > 0:
+                    steps.append((word, who, chance.choice([1, most, chance.randint(1, most)])))
+        if not steps:
+            return book
+        book = stepped(book, chance.choice(steps))
+    return book
+
+
+def times(book, factor):
+    """The same book with all numbers so many times as great."""
+    other = Book(book.persons())
+    for who in book.persons():
+        if book.given(who):
+            other = other.give(who, book.given(who) * factor)
+        for to, amount in book.notes(who):
+            other = other.put(who, to, amount * factor)
+    return other.let_fall({who: book.fallen(who) * factor for who in book.persons()})
+
+
+def book_by_seed(seed, figures=1):
+    """A book of one to twelve persons and up to sixty notes, every second one with something fallen, and the chance."""
+    chance = random.Random(seed)
+    persons = chance.sample(TWELVE, chance.randint(1, 12))
+    book = any_book(chance, persons, chance.choice([0, 1, 5, 12, 30, 60]), figures, cash=seed % 3 > 0)
+    return chance, fallen_book(chance, book) if seed % 2 else book
+
+
+def small_book(chance, notes=4, amount=3):
+    """A book of one to three persons with few and small notes."""
+    persons = chance.sample(["ann", "bob", "eve"], chance.choice([1, 2, 3, 3]))
+    book = Book(persons)
+    for _ in range(chance.randint(0, notes)):
+        book = book.put(chance.choice(persons), chance.choice(persons), chance.randint(1, amount))
+    for _ in range(chance.randint(0, 2)):
+        book = book.give(chance.choice(persons), chance.randint(1, 2))
+    return book
+
+
+def all_vectors(book):
+    """All vectors of a small book."""
+    spans = [range(book.whole_of(who) + 1) for who in book.persons()]
+    return [dict(zip(book.persons(), row)) for row in itertools.product(*spans)]
+
+
+def plain_ends(book, vector):
+    """What each would have by a vector, coin by coin: for small numbers."""
+    coins = CoinBook(book.persons())
+    for who in book.persons():
+        coins.give(who, book.given(who))
+        coins.gone[who] = vector[who]
+        for to, amount in book.notes(who):
+            coins.put(who, to, amount)
+    return {who: coins.cash(who) for who in book.persons()}
+
+
+def any_vector(chance, book):
+    """A vector by chance: of each person nothing, all notes, or any part."""
+    wholes = {who: book.whole_of(who) for who in book.persons()}
+    return {who: chance.choice([0, whole, chance.randint(0, whole)]) for who, whole in wholes.items()}
+
+
+def vector_of(book):
+    """What has fallen of each person's notes."""
+    return {who: book.fallen(who) for who in book.persons()}
+
+
+def turned(vector):
+    """The same dict with its keys the other way round."""
+    return {who: vector[who] for who in list(vector)[::-1]}
+
+
+def no_vectors(book):
+    """Things that are no vector of a book of which no notes come to sixty figures."""
+    good = {who: 0 for who in book.persons()}
+    first, last = book.persons()[0], book.persons()[-1]
+    things = [thing for thing in odd_things() if thing != good] + whole_numbers() + [LikeAll(), book, "ann", list(good)]
+    things += [list(good.items()), tuple(good.items()), {**good, "x": 0}, {**good, None: 0}, {**good, 1: 0}]
+    for who in {first, last}:
+        fewer = {one: 0 for one in good if one != who}
+        things.append(fewer)
+        for key in ["x", "", who + who + "z", who.upper(), None, 0, True, (who,), who.encode(), frozenset(), object()]:
+            things.append({**fewer, key: 0})
+        for much in odd_things() + [book.whole_of(who) + 1, SIXTY_FIGURES, "0", "1", LikeAll(), book]:
+            things.append({**good, who: much})
+    return things
