@@ -103,6 +103,26 @@ class Language(unittest.TestCase):
             for name in free:
                 del needs[name]
 
+    def test_local_names_are_not_those_of_imports_classes_and_builtins(self):
+        for name, text, tree in sources():
+            taken = {one.name for node in nodes_of(tree, ast.ImportFrom) for one in node.names}
+            taken |= {node.name for node in nodes_of(tree, ast.ClassDef)} | set(dir(builtins))
+            local = {node.id for node in nodes_of(tree, ast.Name) if isinstance(node.ctx, ast.Store)}
+            local |= {node.arg for node in nodes_of(tree, ast.arg)}
+            self.assertEqual(local & taken, set(), name)
+
+    def test_handlers_name_own_errors(self):
+        own = {node.name for name, text, tree in sources() if name == "errors.py" for node in nodes_of(tree, ast.ClassDef)}
+        for name, text, tree in sources():
+            for node in nodes_of(tree, ast.ExceptHandler):
+                caught = node.type.elts if isinstance(node.type, ast.Tuple) else [node.type]
+                self.assertLessEqual({one.id for one in caught}, own, name)
+
+    def test_functions_of_tables_are_named_ahead_of_their_call(self):
+        for name, text, tree in sources():
+            for node in nodes_of(tree, ast.Call):
+                self.assertIsInstance(node.func, (ast.Name, ast.Attribute), name)
+
     def test_no_name_is_a_method_and_an_attribute(self):
         methods, attributes = set(), set()
         for name, text, tree in sources():

@@ -6,6 +6,8 @@ import unittest
 from things import SIXTY_FIGURES, TWELVE, any_book
 
 from ringclear.books import Book
+from ringclear.gifts import least_gift, worth_of
+from ringclear.lacks import all_lacks, all_stuck, is_paid
 from ringclear.settling import settled_book
 
 
@@ -116,6 +118,39 @@ class NoBearing(unittest.TestCase):
                 self.assertEqual(cash_of(told), cash_of(end))
                 for who in persons:
                     self.assertEqual([note for note in told.pile(who) if note[0] != who], end.pile(who))
+
+
+class NoBearingOnWhatIsAsked(unittest.TestCase):
+
+    def alike(self, one, other):
+        """Whether who lacks, who is stuck and where, and whether all is paid, is told alike."""
+        self.assertEqual(all_lacks(one), all_lacks(other))
+        self.assertEqual(all_stuck(one), all_stuck(other))
+        self.assertIs(is_paid(one), is_paid(other))
+
+    def test_two_notes_in_one(self):
+        for make in [joined, halved]:
+            for chance, book in books_by_chance(40, 28):
+                persons, given, notes = parts_of(book)
+                other = book_of(persons, given, {who: make(notes[who]) for who in persons})
+                self.alike(book, other)
+                for _ in range(6):
+                    to, of = chance.choice(persons), chance.choice(persons)
+                    amount = chance.randint(0, book.whole_of(of))
+                    self.assertEqual(least_gift(book, to, of, amount=amount), least_gift(other, to, of, amount=amount))
+                    self.assertEqual(least_gift(book, to, of), least_gift(other, to, of))
+
+    def test_notes_to_oneself(self):
+        for chance, book in books_by_chance(40, 30):
+            persons, given, notes = parts_of(book)
+            none = book_of(persons, given, {who: [note for note in notes[who] if note[0] != who] for who in persons})
+            self.alike(book, none)
+            for _ in range(6):
+                to, of = chance.choice(persons), chance.choice(persons)
+                numbers = [number for number, note in enumerate(notes[of]) if note[0] != of]
+                # Each other note has the same worth, by whichever number it goes.
+                for number, elder in enumerate(numbers):
+                    self.assertEqual(worth_of(none, to, of, number), worth_of(book, to, of, elder))
 
 
 if __name__ == "__main__":

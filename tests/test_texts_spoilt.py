@@ -4,6 +4,7 @@ import random
 import re
 import unittest
 
+from spoiling import spoilt
 from things import SIXTY_FIGURES, TWELVE, LikeAll, any_book, fallen_book, odd_things, whole_numbers
 
 from ringclear.books import Book
@@ -184,52 +185,6 @@ class Wholes(Refused):
         self.refused("person ann " + long + " 0\n  ann 0" + long + "\n", 2)
 
 
-def spoil_rows(chance, text):
-    """Rows out, twice, exchanged, or two made one."""
-    rows = text.splitlines(keepends=True)
-    one, other = chance.randrange(len(rows)), chance.randrange(len(rows))
-    kind = chance.randrange(5)
-    if kind == 0:
-        del rows[one]
-    elif kind == 1:
-        rows.insert(other, rows[one])
-    elif kind == 2:
-        rows[one], rows[other] = rows[other], rows[one]
-    elif kind == 3:
-        rows[one] = rows[one][:-1]
-    else:
-        rows = rows[:one]
-    return "".join(rows)
-
-
-def spoil_words(chance, text):
-    """In one row a word more, fewer, or another one."""
-    rows = text.split("\n")
-    at = chance.randrange(len(rows))
-    words = rows[at].split(" ")
-    place = chance.randrange(len(words))
-    other = chance.choice(["person", "a", "l", "k", "abcdefghi", "zz", "0", "1", "007", "-1", "+1", "", "12", "A", "1a"])
-    kind = chance.randrange(3)
-    if kind == 0:
-        del words[place]
-    elif kind == 1:
-        words.insert(place, other)
-    else:
-        words[place] = other
-    rows[at] = " ".join(words)
-    return "\n".join(rows)
-
-
-def spoil_signs(chance, text):
-    """A sign more, fewer, or another one."""
-    place = chance.randrange(len(text))
-    sign = chance.choice(" \n01279alk-+A.")
-    kind = chance.randrange(3)
-    if kind == 0:
-        return text[:place] + text[place + 1:]
-    return text[:place] + sign + text[place + (kind - 1):]
-
-
 class Spoilt(Refused):
 
     def test_texts_spoilt_by_chance(self):
@@ -240,8 +195,7 @@ class Spoilt(Refused):
             persons = chance.sample(TWELVE, chance.choice([1, 2, 3, 12]))
             book = any_book(chance, persons, chance.choice([0, 1, 3, 8]))
             text = book_text(fallen_book(chance, book) if chance.random() < 0.7 else book)
-            for _ in range(chance.choice([1, 1, 2])):
-                text = chance.choice([spoil_rows, spoil_words, spoil_signs])(chance, text) or "\n"
+            text = spoilt(chance, text)
             row = judged(text)
             if row is None:
                 self.assertEqual(book_text(read_book(text)), text)

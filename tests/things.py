@@ -4,6 +4,8 @@ import itertools
 import random
 
 from ringclear.books import Book
+from ringclear.ledgers import Ledger
+from ringclear.settling import settled_book
 from ringclear.steps import most_of, stepped
 
 SIXTY_FIGURES = int("7" * 60)
@@ -138,18 +140,20 @@ def steps_from(book):
     return steps
 
 
+def any_step(chance, book):
+    """A step that can be done, of an amount by chance; None, where there is none."""
+    mosts = [(word, who, most_of(book, who, word=word)) for who in book.persons() for word in ["pay", "clear"]]
+    steps = [(word, who, chance.choice([1, most, chance.randint(1, most)])) for word, who, most in mosts if most > 0]
+    return chance.choice(steps) if steps else None
+
+
 def some_steps(chance, book, many):
     """The book after so many steps at the most, by chance, of amounts by chance."""
     for _ in range(many):
-        steps = []
-        for who in book.persons():
-            for word in ["pay", "clear"]:
-                most = most_of(book, who, word=word)
-                if most > 0:
-                    steps.append((word, who, chance.choice([1, most, chance.randint(1, most)])))
-        if not steps:
+        step = any_step(chance, book)
+        if step is None:
             return book
-        book = stepped(book, chance.choice(steps))
+        book = stepped(book, step)
     return book
 
 
@@ -230,3 +234,65 @@ def no_vectors(book):
         for much in odd_things() + [book.whole_of(who) + 1, SIXTY_FIGURES, "0", "1", LikeAll(), book]:
             things.append({**good, who: much})
     return things
+
+
+def any_deed(chance, book, figures=1):
+    """A deed that can be done, of an amount by chance."""
+    persons = book.persons()
+    kind = chance.choice(["put", "put", "put", "give", "step", "step", "settle"])
+    step = any_step(chance, book) if kind == "step" else None
+    if step is not None:
+        return step
+    if kind == "put" and sum(len(book.notes(who)) for who in persons) < 60:
+        return ("put", chance.choice(persons), chance.choice(persons), any_amount(chance, figures))
+    if kind == "settle":
+        return ("settle",)
+    return ("give", chance.choice(persons), any_amount(chance, figures))
+
+
+def done(book, deed):
+    """A book in which a deed is done."""
+    if deed[0] == "put":
+        return book.put(*deed[1:])
+    if deed[0] == "give":
+        return book.give(*deed[1:])
+    return settled_book(book) if deed == ("settle",) else stepped(book, deed)
+
+
+def do(ledger, deed):
+    """Do a deed to a ledger by the method that does it."""
+    if deed[0] == "put":
+        return ledger.put(*deed[1:])
+    if deed[0] == "give":
+        return ledger.give(*deed[1:])
+    return ledger.settle() if deed == ("settle",) else ledger.step(deed)
+
+
+def any_ledger(chance, persons, deeds, figures=1):
+    """A ledger of these persons to which so many deeds were done."""
+    ledger = Ledger(persons)
+    for _ in range(deeds):
+        do(ledger, any_deed(chance, ledger.book(), figures))
+    return ledger
+
+
+def woven(chance, ledger):
+    """Another ledger of the same puts and sums, with steps and settlings by chance between them."""
+    persons = ledger.book().persons()
+    puts = {who: [deed for deed in ledger.log() if deed[0] == "put" and deed[1] == who] for who in persons}
+    rest = {who: ledger.book().given(who) for who in persons}
+    other = Ledger(persons)
+    while any(puts.values()) or any(rest.values()):
+        who = chance.choice(persons)
+        if puts[who] and chance.random() < 0.7:
+            do(other, puts[who].pop(0))
+        elif rest[who]:
+            part = chance.choice([rest[who], chance.randint(1, rest[who])])
+            other.give(who, part)
+            rest[who] -= part
+        step = any_step(chance, other.book())
+        if step is not None and chance.random() < 0.6:
+            other.step(step)
+        if chance.random() < 0.1:
+            other.settle()
+    return other
